@@ -1,0 +1,58 @@
+"""The examples of the document, word for word, and those of README.md."""
+
+import doctest
+import pathlib
+import unittest
+
+ROOT = pathlib.Path(__file__).resolve().parent.parent
+DOCUMENT = ROOT.parent / "shared" / "DOC.md"
+
+WEBS = """\
+>>> from unnoted.webs import bridges, is_tree, pieces, round_bounds
+>>> pieces(5, [(1, 3), (2, 5)]), is_tree(3, [(1, 2), (2, 3)]), round_bounds(4, [(1, 2), (1, 3), (2, 3)])
+([[1, 3], [2, 5], [4]], True, (3, 3))
+>>> bridges(4, [(1, 2), (1, 3), (2, 3), (3, 4)])
+[(3, 4)]
+"""
+
+LOGS = """\
+>>> from unnoted.logs import all_ends, count_kinds, count_of_kind, ends, faces, met, orders, turns, ways
+>>> log = [(2, 3), (1, 2), (3, 4)]
+>>> ends(4, log), ways(4, log), orders(4, log)
+([2, 4, 1, 3], [[1, 2], [2, 3, 4], [3, 2, 1], [4, 3]], [[2], [3, 1], [2, 4], [3]])
+>>> faces(4, log), met(4, log), turns(4, log)
+([[(1, 2), (2, 3), (3, 4), (4, 3), (3, 2), (2, 1)]], [(2, 3), (1, 3), (2, 4)], [1, 2, 2])
+>>> faces(3, [(1, 2), (2, 3), (1, 3)])
+[[(1, 2), (2, 3), (3, 1)], [(2, 1), (1, 3), (3, 2)]]
+>>> count_kinds(3, [(1, 2), (1, 3), (2, 3)]), count_of_kind(4, log), all_ends(3, [(1, 2), (2, 3)])
+(6, 2, [[2, 3, 1], [3, 1, 2]])
+"""
+
+
+class ExamplesTest(unittest.TestCase):
+    def run_examples(self, text, name, many):
+        test = doctest.DocTestParser().get_doctest(text, {}, name, None, 0)
+        said = []
+        result = doctest.DocTestRunner(verbose=False).run(test, out=said.append)
+        self.assertEqual("".join(said), "")
+        self.assertEqual((result.failed, result.attempted), (0, many))
+
+    def test_webs(self):
+        self.run_examples(WEBS, "webs", 3)
+
+    def test_logs(self):
+        self.run_examples(LOGS, "logs", 6)
+
+    def test_readme(self):
+        text = (ROOT / "README.md").read_text(encoding="utf-8").replace("```", "")
+        self.run_examples(text, "README.md", text.count(">>> "))
+
+    @unittest.skipUnless(DOCUMENT.exists(), "the document is not beside the project")
+    def test_they_stand_in_the_document(self):
+        text = DOCUMENT.read_text(encoding="utf-8")
+        self.assertIn(WEBS, text)
+        self.assertIn(LOGS, text)
+
+
+if __name__ == "__main__":
+    unittest.main()

@@ -1,0 +1,1 @@
+"""Unnoted: exchanges whose order nobody noted."""
