@@ -19,6 +19,18 @@ def all_logs(web):
     return [list(log) for log in permutations(web)]
 
 
+def all_trees(cells):
+    """All trees on so many cells."""
+    return [list(web) for web in combinations(all_exchanges(cells), cells - 1) if len(reached(cells, web, 1)) == cells]
+
+
+def some_tree(cells, number):
+    """A tree on so many cells without a plain pattern; another one for another number, mostly."""
+    names = sorted(range(1, cells + 1), key=lambda cell: (cell * (number * 2 + 3) + number // 3) % 17)
+    joined = [(names[at], names[(at * at * number + 3 * at + number // 2) % at]) for at in range(1, cells)]
+    return sorted((min(pair), max(pair)) for pair in joined)
+
+
 # Some webs beside those of all_webs: trees, rings, several pieces, lonely cells, bridges between rings.
 MORE_WEBS = [
     (1, []),
@@ -175,3 +187,80 @@ def kinds_by_parts(web):
         return found
 
     return abs(total(web, [], 1))
+
+
+def outcomes(cells, web):
+    """The set of all outcomes of a web, as tuples."""
+    return {tuple(ends_by_walking(cells, log)) for log in permutations(web)}
+
+
+def rounds_of_all(cells):
+    """All arrangements that are one round of all cells, as tuples of their ends."""
+    found = []
+    for rest in permutations(range(2, cells + 1)):
+        row = (1,) + rest
+        following_cell = {row[at - 1]: row[at] for at in range(cells)}
+        found.append(tuple(following_cell[cell] for cell in range(1, cells + 1)))
+    return found
+
+
+def pairs_of_sides(cells, web):
+    """For each inner exchange of a tree the tuple of the two sets of cells into which the tree falls apart."""
+    many = {cell: len(order_at(web, cell)) for cell in range(1, cells + 1)}
+    return [tuple(frozenset(reached(cells, without(web, one), cell)) for cell in one)
+            for one in web if many[one[0]] > 1 and many[one[1]] > 1]
+
+
+def splits_by_reach(cells, web):
+    """The set of the splits of a tree, each a set of its two sides."""
+    return {frozenset(pair) for pair in pairs_of_sides(cells, web)}
+
+
+def split_of_side(cells, side):
+    """The split with a side, as a set of its two sides."""
+    return frozenset([frozenset(side), frozenset(range(1, cells + 1)) - frozenset(side)])
+
+
+def all_sides(cells):
+    """One side of each possible split of so many cells: the one without the cell 1."""
+    return [side for many in range(2, cells - 1) for side in combinations(range(2, cells + 1), many)]
+
+
+def do_cross(one, two):
+    """Whether two splits, sets of their sides, cross."""
+    return all(side & other for side in one for other in two)
+
+
+def first_crossing(split_list):
+    """The tuple of the indexes of the first two splits that cross, or None."""
+    found = [pair for pair in combinations(range(len(split_list)), 2)
+             if do_cross(split_list[pair[0]], split_list[pair[1]])]
+    return min(found, default=None)
+
+
+def ways_to_part(cells, split_list):
+    """All ways to take one side of each of some splits so that each cell is in just one: dicts of indexes and sides."""
+    found = []
+
+    def go_on(chosen):
+        left = [cell for cell in range(1, cells + 1) if not any(cell in side for side in chosen.values())]
+        if not left:
+            found.append(chosen)
+            return
+        for index, split in enumerate(split_list):
+            for side in split:
+                if index not in chosen and left[0] in side and side <= set(left):
+                    go_on({**chosen, index: side})
+
+    go_on({})
+    return found
+
+
+def lists_round_nothing(cells, split_list):
+    """The lists of the indexes of the splits that stand round a bundle without a cell, ascending."""
+    found = []
+    for chosen in ways_to_part(cells, split_list):
+        others = [split for index, split in enumerate(split_list) if index not in chosen]
+        if len(chosen) >= 3 and all(any(side <= one for side in other for one in chosen.values()) for other in others):
+            found.append(sorted(chosen))
+    return sorted(found)

@@ -28,6 +28,36 @@ LOGS = """\
 (6, 2, [[2, 3, 1], [3, 1, 2]])
 """
 
+ARRANGEMENTS = """\
+>>> from unnoted.arrangements import Arrangement
+>>> one, two = (Arrangement([2, 3, 1, 4]), Arrangement.after(4, [(1, 2), (3, 4)]))
+>>> one.rounds, (one * two).ends, (~one).ends, (one ** 4).ends, (one ^ two).ends
+([[1, 2, 3], [4]], [1, 4, 2, 3], [3, 1, 2, 4], [2, 3, 1, 4], [4, 1, 3, 2])
+>>> abs(one), one[2], one(['a', 'b', 'c', 'd'])
+(2, 3, ['c', 'a', 'b', 'd'])
+"""
+
+REACH = """\
+>>> from unnoted.reach import can_end
+>>> can_end(4, [(1, 2), (1, 3), (2, 3), (3, 4)], 1, 1), can_end(4, [(1, 2), (1, 3), (2, 3), (3, 4)], 4, 4)
+(True, False)
+"""
+
+# The third example is one line in the document.
+SPLITS = """\
+>>> from unnoted.splits import alike_webs, are_alike, bundles, count_alike, is_within, splits, web_with
+>>> splits(5, [(1, 2), (2, 3), (3, 4), (4, 5)]), bundles(5, [(1, 2), (2, 3), (3, 4), (4, 5)])
+([(3, 4, 5), (4, 5)], [(2, [1]), (3, []), (4, [5])])
+>>> are_alike(4, [(1, 2), (2, 3), (3, 4)], [(1, 2), (1, 3), (3, 4)]), \
+is_within(4, [(1, 2), (2, 3), (3, 4)], [(1, 2), (1, 3), (1, 4)]), \
+is_within(4, [(1, 2), (1, 3), (1, 4)], [(1, 2), (2, 3), (3, 4)])
+(True, True, False)
+>>> count_alike(4, [(1, 2), (2, 3), (3, 4)]), alike_webs(3, [(1, 2), (2, 3)])
+(4, [[(1, 2), (1, 3)], [(1, 2), (2, 3)], [(1, 3), (2, 3)]])
+>>> web_with(6, [[1, 2], (5, 6)])
+[(1, 2), (1, 3), (3, 4), (3, 5), (5, 6)]
+"""
+
 
 class ExamplesTest(unittest.TestCase):
     def run_examples(self, text, name, many):
@@ -43,6 +73,15 @@ class ExamplesTest(unittest.TestCase):
     def test_logs(self):
         self.run_examples(LOGS, "logs", 6)
 
+    def test_arrangements(self):
+        self.run_examples(ARRANGEMENTS, "arrangements", 4)
+
+    def test_reach(self):
+        self.run_examples(REACH, "reach", 2)
+
+    def test_splits(self):
+        self.run_examples(SPLITS, "splits", 5)
+
     def test_readme(self):
         text = (ROOT / "README.md").read_text(encoding="utf-8").replace("```", "")
         self.run_examples(text, "README.md", text.count(">>> "))
@@ -50,8 +89,8 @@ class ExamplesTest(unittest.TestCase):
     @unittest.skipUnless(DOCUMENT.exists(), "the document is not beside the project")
     def test_they_stand_in_the_document(self):
         text = DOCUMENT.read_text(encoding="utf-8")
-        self.assertIn(WEBS, text)
-        self.assertIn(LOGS, text)
+        for example in (WEBS, LOGS, ARRANGEMENTS, REACH, SPLITS):
+            self.assertIn(example, text)
 
 
 if __name__ == "__main__":

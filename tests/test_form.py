@@ -12,6 +12,13 @@ BUILTINS = set("""len range enumerate zip min max sum abs sorted reversed int st
 isinstance ord repr any all divmod pow iter next map super property staticmethod classmethod Exception ValueError
 TypeError KeyError IndexError LookupError ZeroDivisionError ArithmeticError OverflowError RuntimeError
 NotImplementedError StopIteration NotImplemented""".split())
+INTERFACE = {
+    "webs.py": "pieces bridges is_tree round_bounds",
+    "logs.py": "ends ways orders faces met turns are_one_kind count_kinds count_of_kind all_ends",
+    "arrangements.py": "Arrangement",
+    "reach.py": "can_end log_ending",
+    "splits.py": "splits bundles are_alike is_within count_alike alike_webs web_with",
+}
 # An interactive session, or a test of examples, may leave a last result under this name.
 ALL_BUILTINS = set(dir(builtins)) - {"_"}
 
@@ -58,6 +65,36 @@ class FormTest(unittest.TestCase):
         for path in FILES:
             for node in ast.parse(path.read_text()).body:
                 self.assertIsInstance(node, allowed, path)
+
+    def test_the_interface_is_defined_in_its_files(self):
+        for name, listed in INTERFACE.items():
+            body = ast.parse((PACKAGE / name).read_text()).body
+            defined = [node.name for node in body if isinstance(node, (ast.FunctionDef, ast.ClassDef))]
+            for thing in listed.split():
+                self.assertIn(thing, defined, name)
+
+    def test_what_a_class_with_operators_bars(self):
+        for path in FILES:
+            for node in ast.walk(ast.parse(path.read_text())):
+                if isinstance(node, ast.Call) and isinstance(node.func, ast.Name):
+                    if node.func.id in ("any", "all", "min", "max", "sum", "sorted"):
+                        self.assertFalse([one for one in node.args if isinstance(one, ast.GeneratorExp)], path)
+                self.assertFalse(isinstance(node, ast.Attribute) and node.attr == "sort", path)
+                if isinstance(node, ast.ImportFrom) and node.module == "itertools":
+                    self.assertFalse({"product", "combinations", "permutations"} & {one.name for one in node.names})
+                if isinstance(node, ast.ClassDef):
+                    methods = [one.name for one in node.body if isinstance(one, ast.FunctionDef)]
+                    self.assertTrue("__iter__" in methods or "__getitem__" not in methods, path)
+
+    def test_operators_and_properties_change_no_attribute(self):
+        may_change = ("__init__", "__imul__", "__call__")
+        for path in FILES:
+            for node in ast.walk(ast.parse(path.read_text())):
+                if isinstance(node, ast.FunctionDef) and node.name not in may_change:
+                    if node.name.startswith("__") or "property" in [ast.unparse(one) for one in node.decorator_list]:
+                        stored = [one for one in ast.walk(node) if isinstance(one, ast.Attribute)
+                                  and not isinstance(one.ctx, ast.Load)]
+                        self.assertFalse(stored, (path, node.name))
 
 
 if __name__ == "__main__":

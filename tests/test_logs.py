@@ -135,6 +135,11 @@ class KindsTest(unittest.TestCase):
         for web in (all_exchanges(5), all_exchanges(4), prism, prism + [(7, 8)], three_and_three, cells_apart):
             self.assertEqual(count_kinds(16, web), kinds_by_parts(web))
 
+    def test_ten_exchanges_of_six_cells(self):
+        web = [(1, 2), (1, 3), (1, 4), (1, 5), (1, 6), (2, 3), (2, 4), (2, 5), (2, 6), (3, 4)]
+        self.assertEqual(count_kinds(6, web), 325800)
+        self.assertEqual(count_kinds(6, web), kinds_by_parts(web))
+
     def test_logs_of_a_kind_of_ten_exchanges(self):
         # The orders of ten things that are greater and less by turns are the Euler number 50521.
         path = [(cell, cell + 1) for cell in range(1, 11)]

@@ -53,6 +53,17 @@ class BridgesTest(unittest.TestCase):
         self.assertEqual(bridges(6, two_rings), [(3, 4)])
         self.assertEqual(bridges(9, two_rings + [(7, 9)]), [(3, 4), (7, 9)])
 
+    def test_many_exchanges_and_a_bridge(self):
+        self.assertEqual(bridges(16, all_exchanges(15) + [(15, 16)]), [(15, 16)])
+        web = sorted([(first + 1, second + 1) for first, second in all_exchanges(15)] + [(1, 9)])
+        self.assertEqual(len(web), 106)
+        self.assertEqual(bridges(16, web), [(1, 9)])
+
+    def test_great_webs(self):
+        for step in range(1, 40):
+            web = all_exchanges(16)[step % 5::step]
+            self.assertEqual(bridges(16, web), bridges_by_reach(16, web))
+
     def test_all_small_webs(self):
         for cells in range(1, 6):
             for web in all_webs(cells):

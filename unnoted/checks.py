@@ -1,6 +1,6 @@
 """The checks of arguments that several files of the package share."""
 
-from unnoted.errors import InvalidCells, InvalidLog, InvalidWeb
+from unnoted.errors import InvalidCells, InvalidEnds, InvalidLog, InvalidWeb, UnknownCell
 
 MOST_CELLS = 16
 
@@ -49,3 +49,20 @@ def check_log(cells, log):
         if not is_exchange(cells, thing) or thing in seen:
             raise InvalidLog(index)
         seen.add(thing)
+
+
+def check_ends(cells, ends):
+    """Raise InvalidEnds if this is not an arrangement of so many cells."""
+    if not isinstance(ends, list) or len(ends) != cells:
+        raise InvalidEnds(None)
+    seen = set()
+    for index, thing in enumerate(ends):
+        if not is_cell(cells, thing) or thing in seen:
+            raise InvalidEnds(index)
+        seen.add(thing)
+
+
+def check_cell(cells, cell):
+    """Raise UnknownCell if this is not one of so many cells."""
+    if not is_cell(cells, cell):
+        raise UnknownCell(cell)

@@ -82,16 +82,13 @@ def count_kinds(cells, web):
     check_cells(cells)
     check_web(cells, web)
     check_most(web, MOST_OF_KINDS)
-    signs = apart_signs(touching_bits(web))
-    # The bits of a number tell which exchanges a smaller web has.
+    # The bits of a number tell which exchanges a smaller web, or a set of exchanges, has.
+    apart = apart_sets(touching_bits(web))
+    signs = [-1]
     counts = [1]
     for bits in range(1, 1 << len(web)):
-        total = 0
-        part = bits
-        while part > 0:
-            total += signs[part] * counts[bits ^ part]
-            part = (part - 1) & bits
-        counts.append(total)
+        signs.append(-signs[bits & (bits - 1)])
+        counts.append(sum([signs[part] * counts[bits ^ part] for part in apart[bits][1:]]))
     return counts[-1]
 
 
@@ -191,14 +188,14 @@ def touching_bits(exchanges):
     return found
 
 
-def apart_signs(touching):
-    """For the bits of each set of exchanges 1 or -1 if it is odd or even, and 0 if two of them touch."""
-    signs = [-1]
+def apart_sets(touching):
+    """For the bits of each set of exchanges those of all sets in it of which no two touch, the empty one first."""
+    found = [[0]]
     for bits in range(1, 1 << len(touching)):
         top = bits.bit_length() - 1
         rest = bits ^ (1 << top)
-        signs.append(-signs[rest] if (rest & touching[top]) == 0 else 0)
-    return signs
+        found.append(found[rest] + [part | (1 << top) for part in found[rest & ~touching[top]]])
+    return found
 
 
 def bit_places(bits):

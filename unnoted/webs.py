@@ -1,6 +1,7 @@
 """Webs: their pieces, their bridges, and how many rounds they let come out."""
 
 from unnoted.checks import check_cells, check_web
+from unnoted.errors import NotTree
 
 
 def pieces(cells, web):
@@ -14,15 +15,16 @@ def bridges(cells, web):
     """The list of the bridges of a web, ascending."""
     check_cells(cells)
     check_web(cells, web)
-    many = len(pieces_of(cells, web))
-    return [exchange for exchange in web if len(pieces_of(cells, web_without(web, exchange))) > many]
+    # Any other exchange closes a ring with those before it, so it is no bridge.
+    joining = joining_of(cells, web)
+    return [one for one in joining if len(joining_of(cells, web_without(web, one))) < len(joining)]
 
 
 def is_tree(cells, web):
     """Whether a web is a tree on all cells."""
     check_cells(cells)
     check_web(cells, web)
-    return len(web) == cells - 1 and len(pieces_of(cells, web)) == 1
+    return forms_tree(cells, web)
 
 
 def round_bounds(cells, web):
@@ -39,16 +41,43 @@ def round_bounds(cells, web):
     return least, greatest
 
 
+def check_tree(cells, web):
+    """Raise InvalidWeb if this is not a web on so many cells, and NotTree if it is not a tree."""
+    check_web(cells, web)
+    if not forms_tree(cells, web):
+        raise NotTree("the web is not a tree on all cells")
+
+
+def forms_tree(cells, web):
+    """Whether a web that has been checked is a tree on all cells."""
+    return len(web) == cells - 1 == len(joining_of(cells, web))
+
+
 def pieces_of(cells, web):
     """The pieces of a web that has been checked."""
-    names = list(range(cells + 1))
-    for first, second in web:
-        # The lesser name stays, so that a piece has the name of its least cell in the end.
-        low = min(names[first], names[second])
-        high = max(names[first], names[second])
-        names = [low if name == high else name for name in names]
+    names, _ = names_and_joining(cells, web)
     leasts = [cell for cell in range(1, cells + 1) if names[cell] == cell]
     return [[cell for cell in range(1, cells + 1) if names[cell] == least] for least in leasts]
+
+
+def joining_of(cells, web):
+    """The exchanges that join two pieces of the web of those before them."""
+    _, joining = names_and_joining(cells, web)
+    return joining
+
+
+def names_and_joining(cells, web):
+    """For each cell behind a 0 the least cell of its piece, and the exchanges that join two pieces of those before."""
+    names = list(range(cells + 1))
+    joining = []
+    for first, second in web:
+        if names[first] != names[second]:
+            # The lesser name stays, so that a piece has the name of its least cell in the end.
+            low = min(names[first], names[second])
+            high = max(names[first], names[second])
+            names = [low if name == high else name for name in names]
+            joining.append((first, second))
+    return names, joining
 
 
 def web_without(web, exchange):
@@ -62,3 +91,8 @@ def piece_bounds(many, exchanges):
     least = 2 - spare % 2
     greatest = min(spare + 2, many)
     return least, greatest - (greatest - spare) % 2
+
+
+def exchange_of(one, two):
+    """The exchange of two cells, the lesser one first."""
+    return min(one, two), max(one, two)
