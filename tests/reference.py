@@ -1,6 +1,6 @@
 """What the document says of webs and logs, worked out straight from its words and in another way than the program."""
 
-from itertools import combinations, permutations
+from itertools import combinations, permutations, product
 
 
 def all_exchanges(cells):
@@ -264,3 +264,99 @@ def lists_round_nothing(cells, split_list):
         if len(chosen) >= 3 and all(any(side <= one for side in other for one in chosen.values()) for other in others):
             found.append(sorted(chosen))
     return sorted(found)
+
+
+class Numbers:
+    """Numbers without a plain pattern, the same ones in every run."""
+
+    def __init__(self, first):
+        self.state = first * 7919 + 13
+
+    def below(self, limit):
+        """A number from 0 to less than a limit."""
+        self.state = (self.state * 6364136223846793005 + 1442695040888963407) % 2 ** 64
+        return (self.state >> 33) % limit
+
+    def mixed(self, things):
+        """A new list of some things in another order."""
+        left, found = list(things), []
+        while left:
+            found.append(left.pop(self.below(len(left))))
+        return found
+
+    def night(self, cells):
+        """An arrangement that is one round of all cells."""
+        return ends_of_round(self.mixed(range(1, cells + 1)))
+
+
+def ends_of_round(gone):
+    """The arrangement with a round of all cells."""
+    behind = {cell: gone[(at + 1) % len(gone)] for at, cell in enumerate(gone)}
+    return [behind[cell] for cell in sorted(gone)]
+
+
+def trees_by_codes(cells):
+    """All trees on two or more cells, each by the row of the neighbours of its least leaves, which are cut off."""
+    found = []
+    for code in product(range(1, cells + 1), repeat=cells - 2):
+        many = [1 + code.count(cell) for cell in range(1, cells + 1)]
+        pairs = []
+        for cell in code:
+            leaf = many.index(1) + 1
+            pairs.append((min(leaf, cell), max(leaf, cell)))
+            many[leaf - 1] -= 1
+            many[cell - 1] -= 1
+        pairs.append(tuple(cell for cell in range(1, cells + 1) if many[cell - 1] == 1))
+        found.append(sorted(pairs))
+    return sorted(found)
+
+
+def sides_by_reach(cells, web):
+    """The sides of the splits of a tree that lack the cell 1, as ascending tuples, ascending."""
+    return sorted(tuple(sorted(side)) for pair in pairs_of_sides(cells, web) for side in pair if 1 not in side)
+
+
+def common_stretches(cells, nights):
+    """The sides without the cell 1 that are stretches in all nights, as ascending tuples, ascending."""
+    found = []
+    for ends in nights:
+        gone = rounds_by_steps(ends)[0]
+        found.append({frozenset((gone + gone)[at:at + many]) for at in range(cells) for many in range(2, cells - 1)})
+    common = found[0].intersection(*found[1:])
+    return sorted(tuple(sorted(side)) for side in common if 1 not in side)
+
+
+def do_cross_on(gone, one, two):
+    """Whether two exchanges cross, drawn in a circle with the cells in the order of a round."""
+    low, high = sorted(gone.index(cell) for cell in one)
+    inside = [low < gone.index(cell) < high for cell in two]
+    return not set(one) & set(two) and inside[0] != inside[1]
+
+
+def is_drawn(web, ends):
+    """Whether a tree can be drawn without crossings in a circle with the cells in the order of a night."""
+    gone = rounds_by_steps(ends)[0]
+    return not any(do_cross_on(gone, one, two) for one, two in combinations(web, 2))
+
+
+def is_so(web, told):
+    """Whether what is told of a tree, like an entry of `known`, is so."""
+    if told[0] == "busy":
+        return len(order_at(web, told[1])) > 1
+    return (told[1:] in web) == (told[0] == "has")
+
+
+def pairs_that_meet(log):
+    """The pairs of things that change places in a log, ascending."""
+    found = []
+    for at, exchange in enumerate(log):
+        before = log[:at]
+        cells = sorted({cell for one in log for cell in one})
+        found.append(tuple(thing for thing in cells if way_of(before, thing)[-1] in exchange))
+    return sorted(found)
+
+
+def fits_night(cells, web, ends):
+    """Whether an arrangement is one round of all cells in which all sides of a tree are stretches."""
+    rounds = rounds_by_steps(ends)
+    return len(rounds) == 1 and all(is_stretch(rounds[0], side) for pair in pairs_of_sides(cells, web) for side in pair)

@@ -58,6 +58,31 @@ is_within(4, [(1, 2), (1, 3), (1, 4)], [(1, 2), (2, 3), (3, 4)])
 [(1, 2), (1, 3), (3, 4), (3, 5), (5, 6)]
 """
 
+CLASSES = """\
+>>> from unnoted.classes import classes, count_classes
+>>> count_classes(6), classes(4)
+(221, [[], [(2, 3)], [(2, 4)], [(3, 4)]])
+"""
+
+# The last example is one line in the document.
+NIGHTS = """\
+>>> from unnoted.nights import Nights, meetings, telling_nights, web_by_meetings
+>>> nights = Nights(4, [2, 3, 4, 1])
+>>> nights.count(), nights.stretches(), nights.see([2, 4, 1, 3]), nights.count(), nights.may(1, 3)
+(12, [(2, 3), (3, 4)], None, 8, True)
+>>> nights.busy(2), nights.busy(3), nights.trees(), nights.must(3, 2), nights.known
+(None, None, [[(1, 2), (2, 3), (3, 4)]], True, [('busy', 2), ('busy', 3)])
+>>> meetings(3, [(1, 2), (2, 3)], [3, 1, 2]), web_by_meetings(3, [3, 1, 2], [(1, 2), (1, 3)]), \
+len(telling_nights(7, [(1, 2), (2, 3), (3, 4), (4, 5), (4, 6), (6, 7)]))
+([(1, 2), (1, 3)], [(1, 2), (2, 3)], 3)
+"""
+
+RINGS = """\
+>>> from unnoted.rings import aheads, count_ring_ends, ring_ends, ring_web
+>>> ring_web(4), ring_ends(5, [1, 2, 4]), aheads(4, [2, 1, 4, 3]), count_ring_ends(6)
+([(1, 2), (1, 4), (2, 3), (3, 4)], [2, 4, 5, 1, 3], [[1, 2], [3, 4]], 62)
+"""
+
 
 class ExamplesTest(unittest.TestCase):
     def run_examples(self, text, name, many):
@@ -82,6 +107,15 @@ class ExamplesTest(unittest.TestCase):
     def test_splits(self):
         self.run_examples(SPLITS, "splits", 5)
 
+    def test_classes(self):
+        self.run_examples(CLASSES, "classes", 2)
+
+    def test_nights(self):
+        self.run_examples(NIGHTS, "nights", 5)
+
+    def test_rings(self):
+        self.run_examples(RINGS, "rings", 2)
+
     def test_readme(self):
         text = (ROOT / "README.md").read_text(encoding="utf-8").replace("```", "")
         self.run_examples(text, "README.md", text.count(">>> "))
@@ -89,7 +123,7 @@ class ExamplesTest(unittest.TestCase):
     @unittest.skipUnless(DOCUMENT.exists(), "the document is not beside the project")
     def test_they_stand_in_the_document(self):
         text = DOCUMENT.read_text(encoding="utf-8")
-        for example in (WEBS, LOGS, ARRANGEMENTS, REACH, SPLITS):
+        for example in (WEBS, LOGS, ARRANGEMENTS, REACH, SPLITS, CLASSES, NIGHTS, RINGS):
             self.assertIn(example, text)
 
 

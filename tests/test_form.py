@@ -18,6 +18,13 @@ INTERFACE = {
     "arrangements.py": "Arrangement",
     "reach.py": "can_end log_ending",
     "splits.py": "splits bundles are_alike is_within count_alike alike_webs web_with",
+    "classes.py": "count_classes classes",
+    "nights.py": "telling_nights parting meetings web_by_meetings Nights",
+    "rings.py": "ring_web ring_ends aheads count_ring_ends",
+}
+METHODS = {
+    "Arrangement": "ends rounds repeated still after",
+    "Nights": "nights known see has lacks busy undo count fits may must a_tree trees stretches",
 }
 # An interactive session, or a test of examples, may leave a last result under this name.
 ALL_BUILTINS = set(dir(builtins)) - {"_"}
@@ -72,6 +79,14 @@ class FormTest(unittest.TestCase):
             defined = [node.name for node in body if isinstance(node, (ast.FunctionDef, ast.ClassDef))]
             for thing in listed.split():
                 self.assertIn(thing, defined, name)
+
+    def test_the_methods_are_defined_in_their_classes(self):
+        classes = [node for path in FILES for node in ast.parse(path.read_text()).body if isinstance(node, ast.ClassDef)]
+        for name, listed in METHODS.items():
+            body = [node.body for node in classes if node.name == name][0]
+            defined = [node.name for node in body if isinstance(node, ast.FunctionDef)]
+            for thing in listed.split() + ["__init__", "__len__"]:
+                self.assertEqual(defined.count(thing), 1, (name, thing))
 
     def test_what_a_class_with_operators_bars(self):
         for path in FILES:

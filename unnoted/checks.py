@@ -23,9 +23,9 @@ def is_exchange(cells, thing):
     return is_cell(cells, first) and is_cell(cells, second) and first < second
 
 
-def check_cells(cells):
-    """Raise InvalidCells if this is not a number of cells."""
-    if not is_cell(MOST_CELLS, cells):
+def check_cells(cells, least=1, most=MOST_CELLS):
+    """Raise InvalidCells if this is not a number of cells within these bounds."""
+    if not is_whole(cells) or not least <= cells <= most:
         raise InvalidCells(cells)
 
 
@@ -66,3 +66,11 @@ def check_cell(cells, cell):
     """Raise UnknownCell if this is not one of so many cells."""
     if not is_cell(cells, cell):
         raise UnknownCell(cell)
+
+
+def check_two_cells(cells, first, second):
+    """Raise UnknownCell if these are not two of so many cells, with None if they are the same one."""
+    check_cell(cells, first)
+    check_cell(cells, second)
+    if first == second:
+        raise UnknownCell(None)
